@@ -1,0 +1,1 @@
+"""Sortlore: orders of writing, told by rules as text."""
