@@ -2,6 +2,7 @@
 
 import ast
 import builtins
+import itertools
 import pathlib
 import re
 import unittest
@@ -20,6 +21,7 @@ METHODS = set("""append clear copy count endswith extend find get index insert i
     isspace isupper items join keys ljust lower lstrip partition pop remove replace reverse rfind rjust
     rpartition rsplit rstrip setdefault split splitlines startswith strip update upper values zfill
     bit_length""".split())
+VALUES = set("count index title find get join lower upper split strip copy add".split())
 DOUBLE = {"__init__", "__eq__", "__repr__", "__str__", "__len__"}
 UNUSED = set("""register mro elements open input version_info with_traceback add_note attrgetter breakpoint
     compile copyright credits delattr dir eval exec exit gc getattr globals hasattr help id importlib license
@@ -137,6 +139,20 @@ def faults_of_methods(tree, own):
     return [f"L25 a method: {node.lineno}" for node in called if node.func.attr not in METHODS | DOUBLE | own]
 
 
+def faults_of_members(sources):
+    """L18, L26: over all files, no name both a method and a value, and none that Python's own values have."""
+    methods, values = set(), set()
+    for node in itertools.chain.from_iterable(ast.walk(ast.parse(source)) for source in sources):
+        if isinstance(node, ast.ClassDef):
+            methods |= {inner.name for inner in node.body if isinstance(inner, ast.FunctionDef)}
+        if isinstance(node, ast.Attribute) and isinstance(node.ctx, ast.Store):
+            values.add(node.attr)
+    found = [f"L18 a method and a value: {name}" for name in sorted(methods & values)]
+    taken = set().union(*[set(dir(kind)) for kind in (str, int, list, tuple, dict, set, frozenset, bytes)])
+    found += [f"L26 a method: {name}" for name in sorted((methods & taken) - METHODS - DOUBLE - {"add", "discard"})]
+    return found + [f"L26 a value: {name}" for name in sorted((values & (taken | {"args"})) - VALUES)]
+
+
 def faults(source, own=frozenset()):
     """All that is seen against the rules in a file; own are the names of the package's methods."""
     tree = ast.parse(source)
@@ -175,6 +191,13 @@ class Language(unittest.TestCase):
                     own |= {inner.name for inner in node.body if isinstance(inner, ast.FunctionDef)}
         for name, source in self.sources.items():
             self.assertEqual(faults(source, own), [], name)
+
+    def test_methods_and_values_keep_to_their_names(self):
+        self.assertEqual(faults_of_members(self.sources.values()), [])
+        head = "class A:\n    def "
+        for source in (head + "f(self):\n        self.f = 1\n", head + "sort(self):\n        pass\n",
+                       head + "f(self):\n        self.items = 1\n", head + "f(self):\n        self.args = 1\n"):
+            self.assertNotEqual(faults_of_members([source]), [], source)
 
     def test_names_are_drawn_from_the_file_that_defines_them_without_a_ring(self):
         draws = {"sortlore." + name: drawn_from(ast.parse(source)) for name, source in self.sources.items()}
