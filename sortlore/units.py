@@ -24,13 +24,18 @@ def add_mark(made, place):
     made[-1][2].append(place)
 
 
+def add_part(order, made, part):
+    """Adds what a part makes to the elements made ahead of it, whose marks are lists here."""
+    for kind, worth, case in steps_by(order, part):
+        if kind == MARK:
+            add_mark(made, worth)
+        else:
+            made.append((kind, worth, [], case))
+
+
 def units(order, text):
     """The elements of a text, each a tuple (kind, worth, marks, case), or NoSign."""
     made = []
     for part in parts_of(order, text):
-        for kind, worth, case in steps_by(order, part):
-            if kind == MARK:
-                add_mark(made, worth)
-            else:
-                made.append((kind, worth, [], case))
+        add_part(order, made, part)
     return [(kind, worth, tuple(marks), case) for kind, worth, marks, case in made]
