@@ -32,33 +32,24 @@ def way_back(came, start, last):
     return pieces
 
 
-def round_from(after, start):
-    """A shortest round among those that have this piece, or [] where there is none."""
+def round_from(after, start, most):
+    """A shortest round among those that have this piece, or [] where none has at most so many pieces."""
     came = {}
-    queue = [start]
-    at = 0
+    newest = [start]
+    length = 0
     # Nearer pieces are looked at first, so the first way back is a shortest one.
-    while at < len(queue):
-        piece = queue[at]
-        at += 1
-        for other in after[piece]:
-            if other == start:
-                return way_back(came, start, piece)
-            if other not in came:
-                came[other] = piece
-                queue.append(other)
+    while newest and length < most:
+        further = []
+        for piece in newest:
+            for other in after[piece]:
+                if other == start:
+                    return way_back(came, start, piece)
+                if other in after and other not in came:
+                    came[other] = piece
+                    further.append(other)
+        newest = further
+        length += 1
     return []
-
-
-def shortest_round(rows):
-    """A shortest round of all, or [] where there is none."""
-    after = followers(rows)
-    best = []
-    for piece in after:
-        found = round_from(after, piece)
-        if found and (not best or len(found) < len(best)):
-            best = found
-    return best
 
 
 def count_ahead(after):
@@ -72,26 +63,51 @@ def count_ahead(after):
     return ahead
 
 
-def first_free(waiting, ahead):
-    """The first waiting piece with nothing ahead of it, or None."""
-    for piece in waiting:
-        if ahead[piece] == 0:
-            return piece
-    return None
+def take_out(after, ahead, piece):
+    """Takes a piece out, and with it all that have then nothing ahead of them, as these are in no round."""
+    leaving = [piece]
+    while leaving:
+        behind = after.pop(leaving.pop())
+        for other in behind:
+            ahead[other] -= 1
+            if ahead[other] == 0 and other in after:
+                leaving.append(other)
+
+
+def shortest_round(rows):
+    """A shortest round of all, or [] where there is none."""
+    after = followers(rows)
+    ahead = count_ahead(after)
+    best = []
+    most = len(after)
+    for piece in told(rows):
+        if piece in after:
+            found = round_from(after, piece, most)
+            if found:
+                best = found
+                most = len(found) - 1
+            # All rounds that have it are seen.
+            take_out(after, ahead, piece)
+    return best
 
 
 def lined_up(rows):
     """All pieces of the rows in one list that keeps to every row, or Round."""
     after = followers(rows)
     ahead = count_ahead(after)
-    waiting = list(after)
+    pieces = list(after)
+    numbers = dict([(piece, number) for number, piece in enumerate(pieces)])
+    # Of each row at most one piece is free at a time, so these are few.
+    free = [numbers[piece] for piece in pieces if ahead[piece] == 0]
     line = []
-    while waiting:
-        piece = first_free(waiting, ahead)
-        if piece is None:
-            raise Round(shortest_round(rows))
-        waiting.remove(piece)
-        line.append(piece)
-        for other in after[piece]:
+    while free:
+        number = min(free)
+        free.remove(number)
+        line.append(pieces[number])
+        for other in after[pieces[number]]:
             ahead[other] -= 1
+            if ahead[other] == 0:
+                free.append(numbers[other])
+    if len(line) < len(pieces):
+        raise Round(shortest_round(rows))
     return line
